@@ -1,0 +1,1 @@
+"""Ringvotes: flows that meters outvote."""
