@@ -62,6 +62,19 @@ def odd_tuples():
     return [("m1",), (1,), ("m1", "m1"), (("m1", 1),), (None, None), nested(tuple, 200), (Sour(), SameAsAll())]
 
 
+def odd_faults():
+    """Values that are no faults."""
+    return odd_values() + odd_tuples() + [
+        (), (0,), (0, 0), (0, 0, 0, 0), (1, 1, 1, 1), [0, 0, 0], [1, 1, 1], {0: 0, 1: 0, 2: 0}, "000",
+        (1, 0, 0), (3, 2, 0), (2, 1, 3), (3, 0, 0), (0, 4, 0), (4, 4, 0), (0, 0, 4), (4, 3, 0), (0, 10 ** 39, 0),
+        (-1, 0, 0), (0, 0, -1), (-1, -1, 0), (-2, -1, -1),
+        (True, 1, 0), (True, True, 0), (0, True, 0), (0, 0, True), (False, 0, 0), (0, False, 0), (0, 0, False),
+        (None, 0, 0), (0, None, 0), (0, 0, None), ("0", 0, 0), (0, "1", 0), (0, 0, "0"), ((0, 0, 0),),
+        ((0,), 0, 0), (0, [0], 0), (0, 0, ()), (SameAsAll(), 0, 0), (0, SameAsAll(), 0), (0, 0, Sour()), (Sour(), 0, 0),
+        ((0, 0), 0), (b"0", 0, 0), (1j, 1, 0),
+    ]
+
+
 def raised(case, error, call, *values, **named):
     """The error of just this class that a call raises."""
     with case.assertRaises(error) as caught:
@@ -80,6 +93,20 @@ def check_index(case, error, index, call, *values, **named):
     found = raised(case, error, call, *values, **named).index
     case.assertEqual(found, index)
     case.assertIs(found.__class__, index.__class__)
+
+
+def check_all_given(case, error, values, call, *before, behind=()):
+    """The call raises this error with each of these values behind the others, whatever stands behind it."""
+    for value in values:
+        check_given(case, error, value, call, *before, value, *behind)
+
+
+def check_by_name(case, call, **named):
+    """The call returns equal results by position, by name, and by name in another order; returns the result."""
+    result = call(*named.values())
+    case.assertEqual(call(**named), result)
+    case.assertEqual(call(**dict(reversed(named.items()))), result)
+    return result
 
 
 def edits(text, letters):

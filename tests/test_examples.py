@@ -23,12 +23,55 @@ NETS = r"""
 raises UnknownName(given='m6')
 """
 
+WORLDS = r"""
+>>> from ringvotes.worlds import is_flow, readings_of, silent_meters, value_of, wrong_meters
+>>> [is_flow(yard, (7, 4, 3, 4, 3)), is_flow(yard, (7, 4, 3, 4, 4)), readings_of(yard, (7, 4, 3, 4, 3))]
+[True, False, (7, 4, 3, 4, 3)]
+>>> [wrong_meters(yard, ((7, 4, 3, 4, 3), (None, 4, 3, 4, 5))), silent_meters(yard, ((7, 4, 3, 4, 3), (None, 4, 3, 4, 5)))]
+[('m5',), ('m1',)]
+>>> [value_of(yard, Sum.read("2*m2 - m5"), (None, 4, 3, 4, 5)), value_of(yard, one, (7, None, 3, 4, 5))]
+[3, None]
+"""
+
+STRENGTHS = r"""
+>>> from ringvotes.strengths import can_tell, misleading, ring_through, strength
+>>> [strength(yard, "src"), strength(yard - "m4", "left"), ring_through(yard - "m4", "left")]
+[3, 2, (1, 1, 0, 1, 0)]
+>>> [strength(yard + Meter("m1", "src", sealed=True), "src"), strength(Net.read("pipe p a b"), "p")]
+[None, None]
+>>> [can_tell(yard, "src", (1, 1, 0)), can_tell(yard, "src", (0, 2, 0)), can_tell(yard, "src", (1, 1, 1))]
+[True, True, False]
+>>> first, second = misleading(yard, "src", (1, 1, 1))
+>>> [first[1] == second[1], first[0][0] == second[0][0]]
+[True, False]
+"""
+
+RULES = r"""
+>>> from ringvotes.rules import Rule, outcome
+>>> rule = Rule(("if m1 == m2 + m3 go 2", "tell m4 + m5", "tell m1"))
+>>> [len(rule), rule.meters, outcome(yard, rule, (7, 4, 3, 4, 5)), outcome(yard, rule, (7, 4, 4, 4, 3)), outcome(yard, rule, (None, 4, 3, 4, None))]
+[3, ('m1', 'm2', 'm3', 'm4', 'm5'), 7, 7, None]
+>>> by_vote = Rule.voting(1, Sum.of("m1"), Sum.read("m2 + m3"), Sum.read("m4 + m5"))
+>>> [by_vote.rows, outcome(yard, by_vote, (9, 4, 3, 4, 3)), outcome(yard, by_vote, (9, 4, 3, 4, 4))]
+[('vote 1: m1, m2 + m3, m4 + m5', 'doubt'), 7, None]
+>>> Rule(("if m1 == m2 go 0", "doubt"))
+raises InvalidRows(index=0)
+"""
+
+VOTES = r"""
+>>> from ringvotes.votes import is_vote, tally, votes, voting_rule
+>>> [is_vote(yard, "left", Sum.read("m1 - m5")), is_vote(yard, "left", Sum.read("m1 - m4")), len(votes(yard, "src"))]
+[True, False, 3]
+>>> [tally(yard, "src", (7, 4, 3, 4, 3)), voting_rule(yard, "src", (1, 1, 1)), outcome(yard, voting_rule(yard, "src", (1, 1, 0)), (7, 4, 3, 4, 5))]
+[(7, 7, 7), None, 7]
+"""
+
 
 class TestExamples(unittest.TestCase):
     def test_examples_as_they_stand_in_the_document(self):
         names = {}
-        run_examples(self, SUMS, names)
-        run_examples(self, NETS, names)
+        for text in (SUMS, NETS, WORLDS, STRENGTHS, RULES, VOTES):
+            run_examples(self, text, names)
 
     def test_the_runner_sees_what_is_different(self):
         for text in (">>> 1 + 1\n3", ">>> int('1')\nraises ValueError()", ">>> int('x')\nraises KeyError()"):

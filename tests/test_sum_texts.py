@@ -1,14 +1,10 @@
-import re
 import unittest
 from itertools import product
 
 from ringvotes.errors import InvalidText
 from ringvotes.sums import Sum
+from tests.oracles import expected_terms
 from tests.support import check_given, edits, odd_tuples, odd_values, raised
-
-TERM = "(?:(?!1[*])([1-9][0-9]*)[*])?([a-z][a-z0-9]{0,7})"
-SUM = re.compile(f"(-?){TERM}((?: [+-] {TERM})*)")
-FURTHER = re.compile(f" ([+-]) {TERM}")
 
 FORTY = 10 ** 40 - 1
 TEXTS = {
@@ -26,19 +22,6 @@ TEXTS = {
     "abcdefgh - 10*z9999999": (("abcdefgh", 1), ("z9999999", -10)),
     f"{FORTY}*a - {FORTY}*b": (("a", FORTY), ("b", -FORTY)),
 }
-
-
-def expected_terms(text):
-    """The terms that a text means, None if it is no text of a sum; found by a pattern."""
-    if text == "0":
-        return ()
-    found = SUM.fullmatch(text)
-    if found is None:
-        return None
-    parts = [(found[1], found[2], found[3])] + FURTHER.findall(found[4])
-    terms = [(name, int(sign.strip("+") + (number or "1"))) for sign, number, name in parts]
-    names = [name for name, _ in terms]
-    return tuple(terms) if names == sorted(set(names)) else None
 
 
 class TestSumTexts(unittest.TestCase):
