@@ -1,6 +1,6 @@
 """Sums that are equal to the flow of a pipe in all worlds without faults, and rules that let them vote."""
 
-from ringvotes.checks import check_faults, check_net, check_pipe, check_total
+from ringvotes.checks import check_net, check_pipe, check_total
 from ringvotes.heights import amounts_of, heights_for
 from ringvotes.rules import Rule
 from ringvotes.strengths import can_tell, strength
@@ -20,7 +20,10 @@ def is_vote(net, pipe, total):
 
 
 def votes(net, pipe):
-    """As many votes for a pipe as its strength says, without common meters; one of sealed meters if it is None."""
+    """As many votes for a pipe as its strength says; one of sealed meters only if this is None.
+
+    No meter without a seal is in two of them.
+    """
     check_net(net)
     check_pipe(net, pipe)
     sealed = sealed_at(net, pipe)
@@ -46,9 +49,6 @@ def tally(net, pipe, readings):
 
 def voting_rule(net, pipe, faults):
     """A rule of votes that is right for a pipe and faults, None if the pipe cannot be told."""
-    check_net(net)
-    check_pipe(net, pipe)
-    check_faults(faults)
     if not can_tell(net, pipe, faults):
         return None
     healed = faults[0]
