@@ -26,7 +26,7 @@ def heights_for(net, amounts):
 
 def _spread(net, amounts, heights):
     """Gives heights to all places that pipes join to those that have one."""
-    # Each round but the last one reaches a further place.
+    # No place is farther away than all pipes together, so this many rounds are enough.
     for _ in net.pipes:
         for part, amount in zip(net.pipes, amounts):
             if part.start in heights and part.end not in heights:
