@@ -52,7 +52,7 @@ def value_of(net, total, readings):
 
 def check_world(net, world):
     """Raises InvalidWorld if this is no world of the net."""
-    if not _is_world(net, world):
+    if not is_world(net, world):
         raise InvalidWorld(world)
 
 
@@ -63,6 +63,23 @@ def check_readings(net, readings):
     for index, part in enumerate(net.meters):
         if not is_reading(part, readings[index]):
             raise InvalidReadings(index)
+
+
+def is_world(net, value):
+    """Whether a value, whatever it is, is a world of the net."""
+    if not isinstance(value, tuple) or len(value) != 2:
+        return False
+    flow, readings = value
+    return is_flow(net, flow) and are_readings(net, readings) and _seals_hold(net, flow, readings)
+
+
+def are_readings(net, value):
+    """Whether a value, whatever it is, are readings of the net."""
+    try:
+        check_readings(net, value)
+    except InvalidReadings:
+        return False
+    return True
 
 
 def is_reading(part, value):
@@ -94,23 +111,6 @@ def _kept_at(net, flow, place):
     comes = sum([amount for part, amount in zip(net.pipes, flow) if part.end == place])
     goes = sum([amount for part, amount in zip(net.pipes, flow) if part.start == place])
     return comes - goes
-
-
-def _is_world(net, value):
-    """Whether a value, whatever it is, is a world of the net."""
-    if not isinstance(value, tuple) or len(value) != 2:
-        return False
-    flow, readings = value
-    return is_flow(net, flow) and _are_readings(net, readings) and _seals_hold(net, flow, readings)
-
-
-def _are_readings(net, value):
-    """Whether a value, whatever it is, are readings of the net."""
-    try:
-        check_readings(net, value)
-    except InvalidReadings:
-        return False
-    return True
 
 
 def _seals_hold(net, flow, readings):

@@ -144,3 +144,10 @@ def check_example_error(case, source, told, names):
     error = caught.exception
     values = ", ".join([f"{name}={value!r}" for name, value in vars(error).items()])
     case.assertEqual(f"{error.__class__.__name__}({values})", told)
+
+
+def odd_numbers():
+    """Values that are no integers from 0 to 3."""
+    return odd_tuples() + [value for value in odd_values() if value.__class__ is not int or not 0 <= value <= 3] + [
+        (), 4, -1, "1", b"1", [1], (1,), 1j,
+    ]

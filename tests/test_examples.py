@@ -66,11 +66,50 @@ VOTES = r"""
 [(7, 7, 7), None, 7]
 """
 
+JUDGING = r"""
+>>> from ringvotes.judging import alike, fooled, is_right, rows_used
+>>> [is_right(yard, "src", rule, (1, 1, 0)), is_right(yard, "src", rule, (0, 2, 0)), is_right(yard, "src", Rule.read("tell m1"), (0, 0, 0))]
+[True, False, True]
+>>> world = fooled(yard, "src", rule, (1, 1, 1))
+>>> [len(wrong_meters(yard, world)), len(silent_meters(yard, world)), outcome(yard, rule, world[1]) == world[0][0]]
+[1, 1, False]
+>>> [alike(yard, rule, by_vote, wrong=1), alike(yard, rule, by_vote, wrong=1, silent=1), rows_used(yard, rule), rows_used(yard, rule, wrong=1)]
+[True, False, (0, 2), (0, 1, 2)]
+"""
+
+EXPLAINING = r"""
+>>> from ringvotes.explaining import explanations, sure, surely_wrong
+>>> seen = (7, 4, 3, 4, 5)
+>>> [explanations(yard, seen, 0), explanations(yard, seen, 1), explanations(yard, seen, 2)]
+[(), (('m5',),), (('m5',), ('m1', 'm3'))]
+>>> [sure(yard, seen, "src", 1), sure(yard, seen, "src", 2), sure(yard, seen, "left", 2), surely_wrong(yard, seen, 1), surely_wrong(yard, seen, 2)]
+[7, None, 4, ('m5',), ()]
+>>> sure(yard, seen, "src")
+raises NoWorld(most=0)
+"""
+
+ADDITIONS = r"""
+>>> from ringvotes.additions import additions, cheapest
+>>> additions(yard, (Meter("m6", "src"), Meter("m2", "left", sealed=True)), (("src", (1, 1, 1)),))
+((0,),)
+>>> [additions(yard, (), (("src", (1, 1, 0)),)), additions(yard, (), (("src", (1, 1, 1)),)), cheapest(Net.read(lines), (5, 2, 2, 1, 3))]
+[((),), (), ('lout', 'right')]
+"""
+
+COMPARED = r"""
+>>> from ringvotes.compared import parting_flow, same_readings
+>>> three = Net.read("pipe p a b\npipe q b c\npipe r c a\nmeter k p\nmeter m r")
+>>> turned = Net.read("pipe s b c\npipe t a b\npipe u c a\nmeter m s\nmeter k t")
+>>> back = Net.read("pipe p a b\npipe q b a\npipe r a b\nmeter k p\nmeter m r")
+>>> [same_readings(three, turned), parting_flow(three, turned), same_readings(three, back), parting_flow(three, back)[0]]
+[True, None, False, 1]
+"""
+
 
 class TestExamples(unittest.TestCase):
     def test_examples_as_they_stand_in_the_document(self):
         names = {}
-        for text in (SUMS, NETS, WORLDS, STRENGTHS, RULES, VOTES):
+        for text in (SUMS, NETS, WORLDS, STRENGTHS, RULES, VOTES, JUDGING, EXPLAINING, ADDITIONS, COMPARED):
             run_examples(self, text, names)
 
     def test_the_runner_sees_what_is_different(self):
