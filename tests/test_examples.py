@@ -105,11 +105,48 @@ COMPARED = r"""
 [True, None, False, 1]
 """
 
+DESKS = r"""
+>>> from ringvotes.desks import Desk
+>>> desk = Desk(yard)
+>>> desk["m1"] = 7
+>>> desk.note(m2=4, m3=3, m5=3)
+>>> [desk.readings, len(desk), "m4" in desk, desk.sure("lout"), desk.changes]
+[(7, 4, 3, None, 3), 4, False, 4, 2]
+>>> desk.note(m4="4")
+raises InvalidReading(given='4')
+"""
+
+BOOKS = r"""
+>>> from ringvotes.books import Book
+>>> book = Book()
+>>> book["yard"] = yard
+>>> book["two"] = rule
+>>> book.wish(("right", "yard", "src", "two", (1, 1, 0)))
+>>> [book.names, book.changes, "two" in book]
+[('two', 'yard'), 3, True]
+>>> book.wish(("tells", "yard", "src", (1, 1, 1)))
+raises Broken(index=1)
+"""
+
+CERTIFICATES = r"""
+>>> from ringvotes.certificates import certify_readings, certify_rule, certify_told
+>>> from ringvotes.checker import accepts
+>>> claim, certificate = certify_told(yard, "src", (1, 1, 0))
+>>> [claim[0], accepts(claim, certificate), accepts(claim, ()), accepts(claim, (0, 1, 1, 2))]
+['tells', True, False, True]
+>>> [certify_rule(yard, "src", rule, (1, 1, 0))[0][0], certify_rule(yard, "src", rule, (1, 1, 1))[0][0], certify_readings(yard, (7, 4, 3, 4, 3))]
+['right', 'fools', None]
+>>> accepts(("clash", str(yard), (7, 4, 3, 4, 5)), ("m3 - m5", (0, 0, 1, 0)))
+True
+"""
+
 
 class TestExamples(unittest.TestCase):
     def test_examples_as_they_stand_in_the_document(self):
         names = {}
-        for text in (SUMS, NETS, WORLDS, STRENGTHS, RULES, VOTES, JUDGING, EXPLAINING, ADDITIONS, COMPARED):
+        for text in (
+            SUMS, NETS, WORLDS, STRENGTHS, RULES, VOTES, JUDGING, EXPLAINING, ADDITIONS, COMPARED, DESKS, BOOKS, CERTIFICATES,
+        ):
             run_examples(self, text, names)
 
     def test_the_runner_sees_what_is_different(self):
